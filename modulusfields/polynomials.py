@@ -51,6 +51,14 @@ def trimmed(numbers):
     return numbers[:many]
 
 
+def added(p, one, other):
+    """Return the sum of two polynomials."""
+    numbers = one + [0] * (len(other) - len(one))
+    for place, number in enumerate(other):
+        numbers[place] = (numbers[place] + number) % p
+    return trimmed(numbers)
+
+
 def difference(p, one, other):
     """Return the one polynomial less the other one."""
     numbers = one + [0] * (len(other) - len(one))
@@ -70,9 +78,22 @@ def multiplied(p, one, other):
         return []
     sums = [0] * (len(one) + len(other) - 1)
     for place, number in enumerate(one):
-        for further, item in enumerate(other):
-            sums[place + further] += number * item
+        # What is taken many times as a factor has mostly zeros.
+        if number != 0:
+            end = place + len(other)
+            sums[place:end] = [found + number * item for found, item in zip(sums[place:end], other)]
     return [number % p for number in sums]
+
+
+def spread(polynomial, step):
+    """Return a polynomial with `T ** step` in the place of `T`.
+
+    For a power of `p` this is the polynomial taken `step` times as a factor.
+    """
+    numbers = [0] * ((len(polynomial) - 1) * step + 1)
+    for place, number in enumerate(polynomial):
+        numbers[place * step] = number
+    return numbers
 
 
 def divided(p, polynomial, divisor):
@@ -86,6 +107,18 @@ def divided(p, polynomial, divisor):
         for further, item in enumerate(divisor):
             left[place + further] = (left[place + further] - number * item) % p
     return quotient, trimmed(left)
+
+
+def taken_out(p, polynomial, factor):
+    """Return how often a factor divides a polynomial that is not nought, and what is left without it."""
+    times = 0
+    without = polynomial
+    quotient, left = divided(p, without, factor)
+    while left == []:
+        times += 1
+        without = quotient
+        quotient, left = divided(p, without, factor)
+    return times, without
 
 
 def remainder(p, polynomial, modulus):

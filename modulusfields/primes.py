@@ -4,12 +4,12 @@ from modulusfields.errors import InvalidModulus, InvalidNumber, InvalidPrime, To
 from modulusfields.polynomials import (
     common_factor,
     difference,
-    divided,
     is_polynomial,
     is_whole,
     monics_of,
     number_power,
     power_by,
+    taken_out,
 )
 
 # The greatest power of a modulus, for each `p` that there is.
@@ -50,7 +50,7 @@ def factors(p, modulus):
     # What has no factor of a power up to half its own has no other factors either.
     while 2 * power < len(left):
         for monic in monics_of(p, power):
-            times, left = _taken_out(p, left, monic)
+            times, left = taken_out(p, left, monic)
             if times > 0:
                 found.append((monic, times))
         power += 1
@@ -69,6 +69,12 @@ def check_modulus(p, modulus):
     """Raise `InvalidPrime` or `InvalidModulus` unless both arguments are what they are called."""
     if not is_modulus(p, modulus):
         raise InvalidModulus(modulus)
+
+
+def check_prime(p, prime):
+    """Raise `InvalidPrime` or `InvalidModulus` unless both arguments are what they are called."""
+    if not is_prime(p, prime):
+        raise InvalidModulus(prime)
 
 
 def _is_monic(p, value, greatest):
@@ -95,15 +101,3 @@ def _how_many_primes(p, power):
         below = sum([d * counts[d] for d in range(1, n) if n % d == 0])
         counts.append((number_power(p, n) - below) // n)
     return counts[power]
-
-
-def _taken_out(p, polynomial, factor):
-    """Return how often a factor divides a polynomial that is not nought, and what is left without it."""
-    times = 0
-    without = polynomial
-    quotient, left = divided(p, without, factor)
-    while left == []:
-        times += 1
-        without = quotient
-        quotient, left = divided(p, without, factor)
-    return times, without

@@ -1,9 +1,12 @@
 """What the tests share: values to be refused, and plain reckoning that owes nothing to the package."""
 
-from itertools import product
+from itertools import product, zip_longest
 
 PRIMES = (3, 5, 7)
 MODULUS_POWERS = {3: 4, 5: 3, 7: 2}
+# Primes of the greatest power, and one of the power 4.
+SIXTH = {3: [1, 1, 2, 0, 1, 2, 1], 5: [2, 3, 4, 3, 0, 0, 1], 7: [4, 6, 5, 2, 0, 0, 1]}
+FOURTH = {3: [2, 0, 0, 1, 1], 5: [2, 3, 4, 3, 1], 7: [5, 6, 3, 2, 1]}
 
 
 def nested(depth):
@@ -68,6 +71,135 @@ def rest(p, polynomial, monic):
     return numbers
 
 
+def cut(items, nothing):
+    """The items without those at the end that are nothing."""
+    items = list(items)
+    while items and items[-1] == nothing:
+        items.pop()
+    return items
+
+
+def plus(p, one, other):
+    """The sum of two polynomials."""
+    return cut([sum(numbers) % p for numbers in zip_longest(one, other, fillvalue=0)], 0)
+
+
+def minus(p, one, other):
+    """The one polynomial less the other one."""
+    return plus(p, one, [-number % p for number in other])
+
+
+def taken(p, polynomial, count):
+    """A polynomial taken so many times as a factor."""
+    result = [1]
+    for _ in range(count):
+        result = times(p, result, polynomial)
+    return result
+
+
+def quotient(p, polynomial, monic):
+    """The quotient of a polynomial and of a monic one that divides it."""
+    numbers, found = list(polynomial), []
+    while len(numbers) >= len(monic):
+        head = numbers[-1]
+        found.insert(0, head)
+        for k, number in enumerate(monic):
+            numbers[len(numbers) - len(monic) + k] -= head * number
+        numbers = [number % p for number in numbers[:-1]]
+    assert not any(numbers)
+    return found
+
+
+def monic_divisors(p, modulus):
+    """All monic polynomials that divide a modulus, 1 and itself among them."""
+    found = [one for power in range(1, len(modulus)) for one in monics(p, power) if rest(p, modulus, one) == []]
+    return [[1]] + found
+
+
+def told_deed(p, polynomial):
+    """The deed of a polynomial, each item made of the one ahead of it as the document tells."""
+    items = [list(polynomial)] if polynomial else []
+    for k in range(1, len(polynomial)):
+        below = minus(p, [0] * p ** k + [1], [0, 1])
+        items.append(quotient(p, minus(p, taken(p, items[-1], p), items[-1]), below))
+    return items
+
+
+def put_by(p, prime, short, one):
+    """What comes by a prime if a rest is put in the place of `X` in a short row."""
+    result, power = [], rest(p, one, prime)
+    for item in short:
+        result = plus(p, result, rest(p, times(p, item, power), prime))
+        power = rest(p, taken(p, power, p), prime)
+    return result
+
+
+def wide(p, short):
+    """A short row as a row in `X`."""
+    if not short:
+        return []
+    row = [[] for _ in range(p ** (len(short) - 1) + 1)]
+    for k, item in enumerate(short):
+        row[p ** k] = item
+    return row
+
+
+def row_plus(p, one, other):
+    """The sum of two rows."""
+    return cut([plus(p, item, further) for item, further in zip_longest(one, other, fillvalue=[])], [])
+
+
+def row_times(p, one, other):
+    """The product of two rows in `X`."""
+    if not one or not other:
+        return []
+    result = [[] for _ in range(len(one) + len(other) - 1)]
+    for k, item in enumerate(one):
+        for n, factor in enumerate(other):
+            if item and factor:
+                result[k + n] = plus(p, result[k + n], times(p, item, factor))
+    return result
+
+
+def row_put(p, row, inner):
+    """A row in `X` with another one in the place of `X`: the sum of its items times what the other one is taken."""
+    result, factor = [], [[1]]
+    for item in row:
+        result = row_plus(p, result, row_times(p, [item] if item else [], factor))
+        factor = row_times(p, factor, inner)
+    return result
+
+
+def by(p, prime, row):
+    """A row with items as rests by a prime."""
+    return cut([rest(p, item, prime) for item in row], [])
+
+
+def row_rest(p, prime, row, monic):
+    """The rest of a row by a monic row by the prime: its multiples are taken away from above."""
+    items = by(p, prime, row)
+    while len(items) >= len(monic):
+        head, shift = items[-1], len(items) - len(monic)
+        for k, item in enumerate(monic):
+            items[shift + k] = minus(p, items[shift + k], rest(p, times(p, head, item), prime))
+        items = cut(items, [])
+    return items
+
+
+def row_put_rest(p, prime, row, inner, monic):
+    """The rest by a monic row by the prime of a row with another one in the place of `X`."""
+    result = []
+    for item in reversed(row):
+        result = row_rest(p, prime, row_times(p, result, inner), monic)
+        result = row_plus(p, result, [item] if item else [])
+    return by(p, prime, result)
+
+
+def monic_rows(p, prime, power):
+    """All monic rows of a power by a prime."""
+    return [[list(one) for one in ends] + [[1]] for ends in product(rests_by(p, prime), repeat=power)]
+
+
 def monics(p, power):
     """All monic polynomials of a power, in order."""
     return [list(numbers) + [1] for numbers in product(range(p), repeat=power)]
@@ -108,6 +240,23 @@ def some_moduli(p):
         5: [[0, 1], [3, 1], [0, 0, 1], [2, 0, 1], [0, 1, 1]],
         7: [[0, 1], [6, 1], [0, 0, 1], [1, 0, 1]],
     }[p]
+
+
+def some_pairs():
+    """Moduli within the limits with primes: each shape of a modulus, primes within it and beside it."""
+    return [
+        (3, [0, 1], [0, 1]), (3, [0, 1], [1, 1]), (3, [0, 1], [2, 1]), (3, [2, 1], [1, 0, 1]),
+        (3, [1, 0, 1], [1, 0, 1]), (3, [1, 0, 1], [0, 1]), (3, [1, 0, 1], [1, 1]),
+        (3, [0, 0, 1], [0, 1]), (3, [0, 0, 1], [1, 1]), (3, [0, 0, 1], [2, 1]),
+        (3, [0, 2, 1], [0, 1]), (3, [0, 2, 1], [1, 1]), (3, [0, 2, 1], [2, 1]),
+        (3, [0, 0, 2, 1], [0, 1]), (3, [0, 0, 2, 1], [1, 1]), (3, [0, 0, 2, 1], [2, 1]), (3, [0, 0, 2, 1], [2, 1, 1]),
+        (3, [0, 0, 0, 1], [1, 1]), (3, [0, 0, 0, 1], [1, 0, 1]), (3, [0, 1, 0, 1], [0, 1]),
+        (3, [0, 1, 0, 1], [1, 0, 1]), (3, [0, 2, 0, 1], [2, 1, 1]), (3, [0, 2, 0, 1], [1, 2, 0, 1]),
+        (5, [0, 1], [0, 1]), (5, [0, 1], [1, 1]), (5, [0, 1], [2, 1]), (5, [0, 1], [4, 1]), (5, [3, 1], [2, 0, 1]),
+        (5, [0, 1, 1], [0, 1]), (5, [0, 1, 1], [2, 1]), (5, [0, 0, 1], [1, 1]), (5, [0, 0, 1], [0, 1]),
+        (5, [2, 0, 1], [0, 1]), (7, [0, 1], [0, 1]), (7, [0, 1], [1, 1]), (7, [0, 1], [2, 1]), (7, [0, 1], [3, 1]),
+        (7, [4, 1], [1, 0, 1]), (7, [0, 1, 1], [0, 1]), (7, [0, 1, 1], [2, 1]),
+    ]
 
 
 def lists_within(value):

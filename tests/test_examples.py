@@ -19,7 +19,48 @@ from modulusfields.rests import cosets, free_rests, generated, how_many_free, is
 # [[[[1], [2]], [[1, 1], [2, 2]], [[1, 2], [2, 1]]], [[[1], [2]]], [[1]]]
 """
 
-BLOCKS = [RESTS]
+# Promises [9] to [14].
+DEEDS = """\
+from modulusfields.deeds import acted, deed, is_short, short_put, short_sum, unlike_place
+from modulusfields.products import lower_row, lower_value, monic_multiple, monic_product, summed, through
+[deed(3, [0, 1]), deed(3, [0, 0, 1]), deed(3, [1, 2]), deed(3, [2]), deed(3, []), deed(5, [0, 0, 1])]
+# [[[0, 1], [1]], [[0, 0, 1], [0, 1, 0, 1], [1]], [[1, 2], [2]], [[2]], [], [[0, 0, 1], [0, 1, 0, 0, 0, 1], [1]]]
+[short_put(3, deed(3, [0, 1]), deed(3, [0, 1])), short_sum(3, [[1], [1]], [[1], [2]]), is_short(3, [[1], []]), unlike_place(3, [[0, 1], [1]]), unlike_place(3, [[0, 1], [2]]), unlike_place(3, [])]
+# [[[0, 0, 1], [0, 1, 0, 1], [1]], [[2]], False, None, 1, None]
+[acted(3, [1, 0, 1], [0, 1], [0, 1]), acted(3, [1, 0, 1], [1, 0, 1], [0, 1]), acted(3, [1, 0, 1], [0, 0, 1], [0, 1])]
+# [[2, 2], [0, 1], []]
+[monic_product(3, 0), monic_product(3, 1), len(monic_product(3, 2)), monic_multiple(3, 1), len(monic_multiple(3, 2))]
+# [[1], [0, 2, 0, 1], 19, [0, 2, 0, 1], 13]
+[lower_row(3, 0), lower_row(3, 1), lower_value(3, 1, [0, 0, 1]), lower_value(3, 1, [2]), through(3, [[1], []]), summed(3, [[1], [0, 2]], [0, 0, 1])]
+# [[[1]], [[2], [1]], [0, 0, 2, 0, 0, 0, 1], [], [[1], [0, 2]], [0, 0, 0, 0, 2]]
+"""
+
+# Promises [15] to [18].
+ZEROS = """\
+from modulusfields.zeros import own_row, own_value, put_in, row_product, lean_row
+t, both = [0, 1], [0, 1, 1]
+[own_row(3, t), lean_row(3, t), own_row(3, [0, 0, 1]), own_row(3, both), lean_row(3, both)]
+# [[[0, 1], [], [1]], [[0, 1], [1]], [[0, 1], [], [0, 0, 1], [], [0, 2], [], [1]], [[1], [], [2, 1], [], [1]], [[1], [2, 1], [1]]]
+[put_in(3, own_row(3, t), [1, 1]), row_product(3, own_row(3, t), own_row(3, both)) == put_in(3, own_row(3, t), [1, 1]), put_in(3, own_row(3, t), t) == own_row(3, [0, 0, 1])]
+# [[[0, 1], [], [1, 2, 1], [], [2, 2], [], [1]], True, True]
+[own_value(3, t, [1, 0, 1], [0, 1]), own_value(3, t, [1, 0, 1], [1, 1]), own_value(3, t, t, [2]), row_product(5, [[2], [0, 1]], [[3, 1]])]
+# [[2, 1], [], [1], [[1, 2], [0, 3, 1]]]
+"""
+
+# Promises [19] to [21]; the block of the document goes on with [22].
+APART = """\
+from modulusfields.apart import apart, apart_kind, is_apart, leader, led, row_by, zeros_by
+[row_by(3, [0, 0, 1], [1, 1]), apart_kind(3, [0, 0, 1], [1, 1]), apart(3, [0, 0, 1], [1, 1])]
+# [[[2], [], [1], [], [1], [], [1]], (2, 3, 1), [[[1], [2], [], [1]], [[2], [2], [], [1]]]]
+[apart(3, [1, 0, 1], [0, 1]), apart_kind(3, [1, 0, 1], [1, 1]), apart_kind(3, [0, 2, 1], [0, 1]), apart(3, [0, 2, 1], [0, 1]), apart_kind(3, [0, 0, 1], [0, 1]), apart(3, [0, 0, 1], [0, 1])]
+# [[[[2], [], [1], [], [1]], [[2], [], [2], [], [1]]], (1, 8, 1), (2, 1, 2), [[[1], [1]], [[2], [1]]], (1, 1, 6), [[[], [1]]]]
+[is_apart(3, [0, 0, 1], [1, 1], [[1], [2], [], [1]]), is_apart(3, [0, 0, 1], [1, 1], [[2], [], [1], [], [1], [], [1]]), led(3, [0, 0, 1], [1, 1], [[1], [2], [], [1]], [2]), led(3, [0, 0, 1], [1, 1], [[1], [2], [], [1]], [1, 1]), leader(3, [0, 0, 1], [1, 1], [[1], [2], [], [1]], [[2], [2], [], [1]]), led(3, [0, 0, 1], [1, 0, 1], [[2], [1]], [1, 1])]
+# [True, False, [[2], [2], [], [1]], [[1], [2], [], [1]], [2], [[1, 2], [1]]]
+[zeros_by(3, [0, 1], [1, 1]), zeros_by(3, [0, 1], [2, 1]), zeros_by(3, [0, 2, 1], [0, 1]), zeros_by(3, [0, 0, 1], [0, 1])]
+# [[[1], [2]], [], [[1], [2]], [[]]]
+"""
+
+BLOCKS = [RESTS, DEEDS, ZEROS, APART]
 
 
 class ExamplesTest(unittest.TestCase):
@@ -39,9 +80,12 @@ class ExamplesTest(unittest.TestCase):
     @unittest.skipUnless(os.path.exists(DOCUMENT), "the document is not here")
     def test_examples_stand_in_the_document(self):
         with open(DOCUMENT, encoding="utf-8") as file:
-            text = file.read()
+            lines = file.read().splitlines()
         for block in BLOCKS:
-            self.assertIn("```\n" + block + "```\n", text)
+            place = 0
+            for line in block.splitlines():
+                self.assertIn(line, lines[place:])
+                place += lines[place:].index(line) + 1
 
 
 if __name__ == "__main__":

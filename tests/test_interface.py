@@ -28,6 +28,40 @@ FUNCTIONS = {
         "generated": {"p": 3, "modulus": [1, 0, 1], "some": [[0, 1]]},
         "cosets": {"p": 3, "modulus": [1, 0, 1], "group": [[1], [2]]},
     },
+    "modulusfields.deeds": {
+        "deed": {"p": 3, "polynomial": [1, 2]},
+        "is_short": {"p": 3, "value": [[0, 1], [1]]},
+        "short_sum": {"p": 3, "one": [[0, 1], [1]], "other": [[2]]},
+        "short_put": {"p": 3, "one": [[0, 1], [1]], "other": [[1, 2]]},
+        "unlike_place": {"p": 3, "short": [[0, 1], [2]]},
+        "acted": {"p": 3, "prime": [1, 0, 1], "polynomial": [0, 1], "rest": [1, 1]},
+    },
+    "modulusfields.products": {
+        "monic_product": {"p": 3, "power": 1},
+        "monic_multiple": {"p": 3, "power": 1},
+        "lower_row": {"p": 3, "power": 1},
+        "lower_value": {"p": 3, "power": 1, "polynomial": [0, 0, 1]},
+        "through": {"p": 3, "values": [[1], []]},
+        "summed": {"p": 3, "parts": [[1], [0, 2]], "polynomial": [0, 0, 1]},
+    },
+    "modulusfields.zeros": {
+        "own_row": {"p": 3, "modulus": [0, 1, 1]},
+        "lean_row": {"p": 3, "modulus": [0, 1, 1]},
+        "row_product": {"p": 3, "one": [[1], [0, 1]], "other": [[2]]},
+        "put_in": {"p": 3, "row": [[0, 1], [], [1]], "modulus": [1, 1]},
+        "own_value": {"p": 3, "modulus": [0, 1], "prime": [1, 0, 1], "one": [0, 1]},
+    },
+    "modulusfields.apart": {
+        "row_by": {"p": 3, "modulus": [0, 0, 1], "prime": [1, 1]},
+        "apart_kind": {"p": 3, "modulus": [0, 0, 1], "prime": [1, 1]},
+        "apart": {"p": 3, "modulus": [0, 0, 1], "prime": [1, 1]},
+        "is_apart": {"p": 3, "modulus": [0, 0, 1], "prime": [1, 1], "value": [[1], [2], [], [1]]},
+        "led": {"p": 3, "modulus": [0, 0, 1], "prime": [1, 1], "row": [[1], [2], [], [1]], "polynomial": [2]},
+        "leader": {
+            "p": 3, "modulus": [0, 0, 1], "prime": [1, 1], "one": [[1], [2], [], [1]], "other": [[2], [2], [], [1]],
+        },
+        "zeros_by": {"p": 3, "modulus": [0, 1], "prime": [1, 1]},
+    },
 }
 
 

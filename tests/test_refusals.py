@@ -1,12 +1,12 @@
 """Promise [2]: each wrong argument is refused by the error of its point, the first wrong one first."""
 
 import unittest
-from copy import deepcopy
 
 from modulusfields import primes, rests
 from modulusfields.errors import (
     InvalidGroup, InvalidList, InvalidModulus, InvalidNumber, InvalidPolynomial, InvalidPrime, InvalidRest, TooMany,
 )
+from tests.refused import RefusalChecks
 from tests.support import PRIMES, any_values, bad_moduli, bad_polynomials, bad_primes
 
 # For each `p` a modulus, and a rest by it that is neither nought nor free.
@@ -68,27 +68,9 @@ def refusals(p):
     ]
 
 
-class RefusalsTest(unittest.TestCase):
-    def refused(self, function, arguments, error, value):
-        with self.assertRaises(error, msg=(function.__name__, arguments)) as caught:
-            function(*arguments)
-        self.assertIs(type(caught.exception), error)
-        self.assertIs(caught.exception.value, value)
-
-    def test_right_arguments_are_taken(self):
-        for p in PRIMES:
-            for function, arguments, _ in refusals(p):
-                function(*arguments)
-
-    def test_each_wrong_argument(self):
-        for p in PRIMES:
-            for function, arguments, places in refusals(p):
-                for place, (error, values) in enumerate(places):
-                    for value in values:
-                        wrong = arguments[:place] + [value] + arguments[place + 1:]
-                        kept = deepcopy(wrong)
-                        self.refused(function, wrong, error, value)
-                        self.assertEqual(repr(wrong), repr(kept))
+class RefusalsTest(RefusalChecks, unittest.TestCase):
+    def table(self, p):
+        return refusals(p)
 
     def test_by_name(self):
         value = [0, 2]

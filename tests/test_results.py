@@ -3,7 +3,7 @@
 import unittest
 from copy import deepcopy
 
-from modulusfields import primes, rests
+from modulusfields import apart, deeds, primes, products, rests, zeros
 from modulusfields.errors import InvalidList
 from tests.support import lists_within
 
@@ -34,7 +34,65 @@ CALLS = [
     (rests.cosets, [3, [0, 0, 1], [[1], [2]]]),
     (rests.cosets, [5, [0, 1], [[1], [2], [3], [4]]]),
     (rests.cosets, [5, [0, 1], [[1]]]),
+    (deeds.deed, [3, []]),
+    (deeds.deed, [3, [2]]),
+    (deeds.deed, [3, [0, 1, 2]]),
+    (deeds.is_short, [3, [[1], [2]]]),
+    (deeds.short_sum, [3, [], [[], [1]]]),
+    (deeds.short_sum, [3, [[], [1], [], [1]], [[], [2]]]),
+    (deeds.short_sum, [3, [[1], [1]], [[1], [2]]]),
+    (deeds.short_put, [3, [[1]], [[], [], [1]]]),
+    (deeds.short_put, [3, [[], [], [1]], [[1]]]),
+    (deeds.short_put, [3, [[0, 1], [1]], [[0, 1], [1]]]),
+    (deeds.short_put, [3, [[], [1]], [[], [], [1]]]),
+    (deeds.unlike_place, [3, [[0, 1], [2]]]),
+    (deeds.unlike_place, [3, [[0, 1], [1]]]),
+    (deeds.acted, [3, [1, 0, 1], [1], [0, 1]]),
+    (deeds.acted, [3, [1, 0, 1], [0, 0, 1], [0, 1]]),
+    (products.monic_product, [3, 0]),
+    (products.monic_product, [3, 2]),
+    (products.monic_multiple, [3, 0]),
+    (products.monic_multiple, [5, 2]),
+    (products.lower_row, [3, 0]),
+    (products.lower_row, [3, 3]),
+    (products.lower_value, [3, 0, [0, 1]]),
+    (products.lower_value, [3, 1, [2]]),
+    (products.through, [3, [[1]]]),
+    (products.through, [3, [[], [], []]]),
+    (products.through, [3, [[1], [0, 1], [0, 0, 1]]]),
+    (products.summed, [3, [[1], []], [1]]),
+    (products.summed, [3, [[1], [0, 2]], [0, 0, 1]]),
+    (zeros.own_row, [3, [0, 1]]),
+    (zeros.own_row, [7, [3, 1]]),
+    (zeros.own_row, [3, [0, 0, 1, 1]]),
+    (zeros.lean_row, [5, [0, 0, 1]]),
+    (zeros.row_product, [3, [[], [1]], [[], [], [1, 2]]]),
+    (zeros.row_product, [3, [[1]], [[2], [], [], [1]]]),
+    (zeros.row_product, [3, [[2], [], [], [1]], [[1]]]),
+    (zeros.put_in, [3, [], [0, 1]]),
+    (zeros.put_in, [3, [[1, 1]], [0, 1]]),
+    (zeros.put_in, [3, [[], [], [], [1]], [0, 0, 1]]),
+    (zeros.own_value, [3, [0, 1], [1, 0, 1], [0, 1]]),
+    (apart.row_by, [3, [0, 0, 1], [1, 1]]),
+    (apart.row_by, [3, [0, 1], [0, 1]]),
+    (apart.apart_kind, [3, [0, 0, 1], [1, 1]]),
+    (apart.apart, [3, [0, 1], [2, 1]]),
+    (apart.apart, [3, [0, 1], [0, 1]]),
+    (apart.apart, [3, [0, 0, 1], [1, 1]]),
+    (apart.apart, [7, [0, 1], [1, 1]]),
+    (apart.is_apart, [3, [0, 0, 1], [1, 1], [[1], [2], [], [1]]]),
+    (apart.led, [3, [0, 1], [2, 1], [[1], [], [1]], [1]]),
+    (apart.led, [3, [0, 1], [0, 1], [[], [1]], [2]]),
+    (apart.led, [3, [0, 0, 1], [1, 1], [[1], [2], [], [1]], [2]]),
+    (apart.led, [3, [0, 0, 1], [1, 1], [[1], [2], [], [1]], [1]]),
+    (apart.leader, [3, [0, 0, 1], [1, 1], [[1], [2], [], [1]], [[2], [2], [], [1]]]),
+    (apart.zeros_by, [3, [0, 1], [0, 1]]),
+    (apart.zeros_by, [3, [0, 1], [1, 1]]),
+    (apart.zeros_by, [3, [0, 1], [2, 1]]),
 ]
+
+# What is returned that is no list and no Boolean.
+KINDS = {"how_many_free": int, "order_of": int, "apart_kind": tuple}
 
 
 class ResultsTest(unittest.TestCase):
@@ -75,6 +133,26 @@ class ResultsTest(unittest.TestCase):
         self.assertEqual(rests.rest_of(3, modulus, modulus), [])
         self.assertEqual((one, modulus), ([2], [0, 1]))
 
+    def test_one_row_handed_in_twice(self):
+        one, item = [[0, 1], [1]], [0, 1]
+        self.assertEqual(deeds.short_put(3, one, one), [[0, 0, 1], [0, 1, 0, 1], [1]])
+        self.assertEqual(deeds.short_sum(3, one, one), [[0, 2], [2]])
+        self.assertEqual(zeros.row_product(3, one, one), [[0, 0, 1], [0, 2], [1]])
+        self.assertEqual(zeros.put_in(3, [item, item], item), [[0, 1], [0, 0, 1], [], [0, 1]])
+        self.assertEqual(deeds.short_sum(3, [item, item], []), [[0, 1], [0, 1]])
+        self.assertEqual(products.through(3, [item, item]), [[0, 1], [0, 1, 2]])
+        self.assertEqual((one, item), ([[0, 1], [1]], [0, 1]))
+
+    def test_items_of_one_list_handed_in_are_not_shared(self):
+        item = [1]
+        for found in [
+            deeds.short_sum(3, [item, item], []), deeds.short_sum(3, [], [item, item]),
+            deeds.short_put(3, [item], [item, item]), zeros.row_product(3, [item, item], [item]),
+            zeros.put_in(3, [item, item], [0, 1]), products.through(3, [item, item, item]),
+        ]:
+            objects = lists_within([found, item])
+            self.assertEqual(len(objects), len({id(one) for one in objects}))
+
     def test_refused_calls_change_nothing(self):
         some = [[1], [0, 1]]
         with self.assertRaises(InvalidList):
@@ -85,8 +163,10 @@ class ResultsTest(unittest.TestCase):
     def test_kinds_of_results(self):
         for function, arguments in deepcopy(CALLS):
             name = function.__name__
-            kind = bool if name.startswith("is_") else int if name in ["how_many_free", "order_of"] else list
-            self.assertIs(type(function(*arguments)), kind, name)
+            kind = bool if name.startswith("is_") else KINDS.get(name, list)
+            if name != "unlike_place":
+                self.assertIs(type(function(*arguments)), kind, name)
+        self.assertIs(type(deeds.unlike_place(3, [[0, 1], [2]])), int)
 
 
 if __name__ == "__main__":
