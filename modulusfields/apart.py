@@ -26,7 +26,7 @@ from modulusfields.polynomials import (
     taken_out,
 )
 from modulusfields.primes import check_modulus, check_prime
-from modulusfields.rests import free_rests, how_many_free, order_of
+from modulusfields.rests import free_rests, how_many_free_by, order_of
 from modulusfields.rows import is_row
 from modulusfields.zeros import own_row
 
@@ -43,7 +43,7 @@ def apart_kind(p, modulus, prime):
     _, left = taken_out(p, modulus, prime)
     shared, _ = divided(p, modulus, left)
     order = 1 if left == [1] else order_of(p, left, remainder(p, prime, left))
-    return (_how_many_free(p, left) // order, order, _how_many_free(p, shared))
+    return (how_many_free_by(p, left) // order, order, how_many_free_by(p, shared))
 
 
 def apart(p, modulus, prime):
@@ -83,7 +83,7 @@ def led(p, modulus, prime, row, polynomial):
     whole, _ = _lone_product(p, modulus, prime)
     # What is looked for has those zeros that the deed of the opposite leads back to zeros of the row.
     back = opposite_by(p, modulus, remainder(p, polynomial, modulus))
-    turned = _led_zero(field, back, _steps(field, whole, len(back)))
+    turned = led_zero(field, back, deed_steps(field, whole, len(back)))
     return unpack_row(common_row(field, whole, row_value_left(field, whole, pack_row(row), turned)))
 
 
@@ -94,11 +94,11 @@ def leader(p, modulus, prime, one, other):
     field = field_of(p, prime)
     start, end = pack_row(one), pack_row(other)
     _, left = taken_out(p, modulus, prime)
-    steps = _steps(field, start, len(modulus) - 1)
+    steps = deed_steps(field, start, len(modulus) - 1)
     seen = set()
     for rest in free_rests(p, modulus):
         if tuple(remainder(p, rest, left)) not in seen:
-            if row_value_left(field, start, end, _led_zero(field, rest, steps)) == []:
+            if row_value_left(field, start, end, led_zero(field, rest, steps)) == []:
                 return rest
             # The deed of the prime leads each row to itself.
             for alike in _cycle(p, left, rest, prime):
@@ -113,6 +113,24 @@ def zeros_by(p, modulus, prime):
     return sorted([difference(p, [], row[0]) for row in apart(p, modulus, prime)])
 
 
+def deed_steps(field, monic, many):
+    """Return the packed rows that the deeds of 1, `T` and so on make of `X`, by a monic packed row."""
+    turned = row_left(field, [0, 1], monic)
+    steps = [turned]
+    for _ in range(many - 1):
+        times_t = scaled_row(field, turned, field["t"])
+        turned = row_total(field, [times_t, row_raised_left(field, monic, turned)])
+        steps.append(turned)
+    return steps
+
+
+def led_zero(field, polynomial, steps):
+    """Return what the deed of a polynomial makes of `X`, put together of what 1, `T` and so on make."""
+    made = [scaled_row(field, step, number) for step, number in zip(steps, polynomial) if number != 0]
+    # Nought makes nought of anything.
+    return row_total(field, [[]] + made)
+
+
 def _check_both(p, modulus, prime):
     """Raise `InvalidPrime` or `InvalidModulus` unless all arguments are what they are called."""
     check_modulus(p, modulus)
@@ -125,34 +143,11 @@ def _check_lone(p, modulus, prime, row):
         raise InvalidList(row)
 
 
-def _how_many_free(p, monic):
-    """Return how many rests by a modulus, or by the polynomial 1, are free: 1 by this."""
-    return 1 if monic == [1] else how_many_free(p, monic)
-
-
 def _lone_product(p, modulus, prime):
     """Return the packed product of the lone rows, and the part of the modulus that the prime does not divide."""
     _, left = taken_out(p, modulus, prime)
     row = [[], [1]] if left == [1] else row_by(p, left, prime)
     return pack_row(row), left
-
-
-def _steps(field, monic, many):
-    """Return the packed rows that the deeds of 1, `T` and so on make of `X`, by a monic packed row."""
-    turned = row_left(field, [0, 1], monic)
-    steps = [turned]
-    for _ in range(many - 1):
-        times_t = scaled_row(field, turned, field["t"])
-        turned = row_total(field, [times_t, row_raised_left(field, monic, turned)])
-        steps.append(turned)
-    return steps
-
-
-def _led_zero(field, polynomial, steps):
-    """Return what the deed of a polynomial makes of `X`, put together of what 1, `T` and so on make."""
-    made = [scaled_row(field, step, number) for step, number in zip(steps, polynomial) if number != 0]
-    # Nought makes nought of anything.
-    return row_total(field, [[]] + made)
 
 
 def _cycle(p, left, rest, prime):
@@ -168,8 +163,8 @@ def _cycle(p, left, rest, prime):
 def _zeros_together(field, whole, left):
     """Return what the prime's deed taken no times, once and so on makes of `X`: the zeros of one lone row."""
     # By the prime, its deed is nothing but X taken as a factor as many times as there are rests by it.
-    steps = _steps(field, whole, len(left) - 1)
-    return [_led_zero(field, rest, steps) for rest in _cycle(field["p"], left, [1], field["prime"])]
+    steps = deed_steps(field, whole, len(left) - 1)
+    return [led_zero(field, rest, steps) for rest in _cycle(field["p"], left, [1], field["prime"])]
 
 
 def _traces(field, whole, row):

@@ -2,7 +2,6 @@
 
 from modulusfields.errors import InvalidList, InvalidPolynomial
 from modulusfields.polynomials import (
-    GREATEST_POWER,
     added,
     is_polynomial,
     multiplied,
@@ -12,7 +11,7 @@ from modulusfields.polynomials import (
     trimmed,
 )
 from modulusfields.primes import MODULUS_POWERS, check_p, check_prime
-from modulusfields.rests import check_rest
+from modulusfields.rests import check_polynomial, check_rest
 from modulusfields.rows import deed_of, is_row, led_by_t, row_sum
 
 MOST_ITEMS = 8
@@ -72,21 +71,25 @@ def unlike_place(p, short):
 def acted(p, prime, polynomial, rest):
     """Return the rest by a prime that the deed of a polynomial makes of a rest."""
     check_prime(p, prime)
-    if not is_polynomial(p, polynomial, GREATEST_POWER):
-        raise InvalidPolynomial(polynomial)
+    check_polynomial(p, polynomial)
     check_rest(p, prime, rest)
-    found = []
-    for number in reversed(polynomial):
-        # The deed of `number + T * N` makes `number * rest` and what that of T makes of what N has made.
-        turned = added(p, multiplied(p, [0, 1], found), spread(found, p))
-        found = remainder(p, added(p, turned, multiplied(p, trimmed([number]), rest)), prime)
-    return found
+    return led_rest(p, prime, polynomial, rest)
 
 
 def check_short_power(p, polynomial):
     """Raise `InvalidPolynomial` unless a value is nought or a polynomial of a power that a modulus may have."""
     if not is_polynomial(p, polynomial, MODULUS_POWERS[p]):
         raise InvalidPolynomial(polynomial)
+
+
+def led_rest(p, prime, polynomial, rest):
+    """Return what the deed of a polynomial makes of a rest by a prime, as `acted` does."""
+    found = []
+    for number in reversed(polynomial):
+        # The deed of `number + T * N` makes `number * rest` and what that of T makes of what N has made.
+        turned = added(p, multiplied(p, [0, 1], found), spread(found, p))
+        found = remainder(p, added(p, turned, multiplied(p, trimmed([number]), rest)), prime)
+    return found
 
 
 def _check_short(p, short):

@@ -98,6 +98,11 @@ def row_total(field, rows):
     return trimmed([settled(field, item) for item in sums])
 
 
+def row_times(field, one, other):
+    """Return the product of two packed rows."""
+    return trimmed([settled(field, item) for item in _row_sums(one, other)])
+
+
 def row_left(field, row, monic):
     """Return what is left of a list of packed rests, or of sums of products of such, by a monic packed row."""
     left = list(row)
@@ -115,12 +120,7 @@ def row_left(field, row, monic):
 
 def row_times_left(field, monic, one, other):
     """Return what is left of the product of two packed rows by a monic packed row."""
-    sums = [0] * (len(one) + len(other))
-    for place, item in enumerate(one):
-        if item != 0:
-            end = place + len(other)
-            sums[place:end] = [found + item * further for found, further in zip(sums[place:end], other)]
-    return row_left(field, sums, monic)
+    return row_left(field, _row_sums(one, other), monic)
 
 
 def row_raised_left(field, monic, row):
@@ -148,3 +148,13 @@ def common_row(field, monic, other):
         now = scaled_row(field, now, packed_opposite(field, now[-1]))
         ahead, now = now, row_left(field, ahead, now)
     return ahead
+
+
+def _row_sums(one, other):
+    """Return the sums of products of packed rests that are the items of the product of two packed rows."""
+    sums = [0] * (len(one) + len(other))
+    for place, item in enumerate(one):
+        if item != 0:
+            end = place + len(other)
+            sums[place:end] = [found + item * further for found, further in zip(sums[place:end], other)]
+    return sums

@@ -21,13 +21,13 @@ MOST_PRIMES = 1000
 def is_modulus(p, value):
     """Return whether a value is a modulus of a power within the bounds for `p`."""
     check_p(p)
-    return _is_monic(p, value, MODULUS_POWERS[p])
+    return is_monic(p, value, MODULUS_POWERS[p])
 
 
 def is_prime(p, value):
     """Return whether a value is a prime modulus of a power of at most 6."""
     check_p(p)
-    return _is_monic(p, value, GREATEST_PRIME_POWER) and _has_no_factors(p, value)
+    return is_monic(p, value, GREATEST_PRIME_POWER) and has_no_factors(p, value)
 
 
 def primes_of(p, power):
@@ -38,25 +38,13 @@ def primes_of(p, power):
     many = _how_many_primes(p, power)
     if many > MOST_PRIMES:
         raise TooMany(many)
-    return [monic for monic in monics_of(p, power) if _has_no_factors(p, monic)]
+    return [monic for monic in monics_of(p, power) if has_no_factors(p, monic)]
 
 
 def factors(p, modulus):
     """Return the list of the tuples `(prime, times)` of the primes of a modulus, in order."""
     check_modulus(p, modulus)
-    found = []
-    left = modulus
-    power = 1
-    # What has no factor of a power up to half its own has no other factors either.
-    while 2 * power < len(left):
-        for monic in monics_of(p, power):
-            times, left = taken_out(p, left, monic)
-            if times > 0:
-                found.append((monic, times))
-        power += 1
-    if len(left) > 1:
-        found.append((list(left), 1))
-    return sorted(found)
+    return factors_of(p, modulus)
 
 
 def check_p(p):
@@ -77,12 +65,12 @@ def check_prime(p, prime):
         raise InvalidModulus(prime)
 
 
-def _is_monic(p, value, greatest):
+def is_monic(p, value, greatest):
     """Return whether a value is a monic polynomial of a power from 1 to `greatest`."""
     return is_polynomial(p, value, greatest) and len(value) > 1 and value[-1] == 1
 
 
-def _has_no_factors(p, monic):
+def has_no_factors(p, monic):
     """Return whether a monic polynomial of a power of at least 1 is prime."""
     # T ** (p ** k) - T is the product of all primes whose power divides k,
     # and a polynomial that is not prime has a prime factor of at most half its power.
@@ -92,6 +80,23 @@ def _has_no_factors(p, monic):
         if common_factor(p, monic, difference(p, turned, [0, 1])) != [1]:
             return False
     return True
+
+
+def factors_of(p, monic):
+    """Return the factors of a monic polynomial of whatever power, as `factors` does: none of the polynomial 1."""
+    found = []
+    left = monic
+    power = 1
+    # What has no factor of a power up to half its own has no other factors either.
+    while 2 * power < len(left):
+        for factor in monics_of(p, power):
+            times, left = taken_out(p, left, factor)
+            if times > 0:
+                found.append((factor, times))
+        power += 1
+    if len(left) > 1:
+        found.append((list(left), 1))
+    return sorted(found)
 
 
 def _how_many_primes(p, power):

@@ -11,24 +11,20 @@ from modulusfields.polynomials import (
     remainder,
     rests_below,
 )
-from modulusfields.primes import check_modulus, factors
+from modulusfields.primes import check_modulus, factors_of
 
 
 def rest_of(p, modulus, polynomial):
     """Return the rest of a polynomial by a modulus."""
     check_modulus(p, modulus)
-    if not is_polynomial(p, polynomial, GREATEST_POWER):
-        raise InvalidPolynomial(polynomial)
+    check_polynomial(p, polynomial)
     return remainder(p, polynomial, modulus)
 
 
 def how_many_free(p, modulus):
     """Return how many rests by a modulus are free."""
-    many = 1
-    for prime, times in factors(p, modulus):
-        size = number_power(p, len(prime) - 1)
-        many *= (size - 1) * number_power(size, times - 1)
-    return many
+    check_modulus(p, modulus)
+    return how_many_free_by(p, modulus)
 
 
 def free_rests(p, modulus):
@@ -68,7 +64,7 @@ def is_group(p, modulus, value):
     """Return whether a value is a group by a modulus."""
     check_modulus(p, modulus)
     # Just a group is the least group that has all its items, and that one stands in order.
-    return _is_free_list(p, modulus, value) and _least_group(p, modulus, value) == value
+    return _is_free_list(p, modulus, value) and least_group(p, modulus, value) == value
 
 
 def generated(p, modulus, some):
@@ -76,7 +72,7 @@ def generated(p, modulus, some):
     check_modulus(p, modulus)
     if not _is_free_list(p, modulus, some):
         raise InvalidList(some)
-    return _least_group(p, modulus, some)
+    return least_group(p, modulus, some)
 
 
 def cosets(p, modulus, group):
@@ -95,9 +91,15 @@ def cosets(p, modulus, group):
     return found
 
 
+def check_polynomial(p, polynomial):
+    """Raise `InvalidPolynomial` unless a value is nought or a polynomial of a power of at most 60."""
+    if not is_polynomial(p, polynomial, GREATEST_POWER):
+        raise InvalidPolynomial(polynomial)
+
+
 def check_rest(p, modulus, rest):
     """Raise `InvalidRest` unless a value is a rest by a modulus."""
-    if not _is_rest(p, modulus, rest):
+    if not is_rest(p, modulus, rest):
         raise InvalidRest(rest)
 
 
@@ -113,27 +115,7 @@ def check_group(p, modulus, group):
         raise InvalidGroup(group)
 
 
-def _is_rest(p, modulus, value):
-    """Return whether a value is a rest by a modulus."""
-    return is_polynomial(p, value, len(modulus) - 2)
-
-
-def _is_free(p, modulus, value):
-    """Return whether a value is a free rest by a modulus."""
-    return _is_rest(p, modulus, value) and common_factor(p, modulus, value) == [1]
-
-
-def _is_free_list(p, modulus, value):
-    """Return whether a value is a list of free rests by a modulus."""
-    return isinstance(value, list) and all([_is_free(p, modulus, item) for item in value])
-
-
-def _products(p, modulus, rest, rests):
-    """Return the list of the products of a rest with each of several."""
-    return [product_by(p, modulus, rest, item) for item in rests]
-
-
-def _least_group(p, modulus, some):
+def least_group(p, modulus, some):
     """Return the least group that has all free rests of a list."""
     group = [[1]]
     for rest in some:
@@ -145,3 +127,32 @@ def _least_group(p, modulus, some):
             reached = product_by(p, modulus, reached, rest)
         group = grown
     return sorted(group)
+
+
+def is_rest(p, modulus, value):
+    """Return whether a value is a rest by a modulus."""
+    return is_polynomial(p, value, len(modulus) - 2)
+
+
+def how_many_free_by(p, monic):
+    """Return how many rests by a monic polynomial of whatever power are free: 1 by the polynomial 1."""
+    many = 1
+    for prime, times in factors_of(p, monic):
+        size = number_power(p, len(prime) - 1)
+        many *= (size - 1) * number_power(size, times - 1)
+    return many
+
+
+def _is_free(p, modulus, value):
+    """Return whether a value is a free rest by a modulus."""
+    return is_rest(p, modulus, value) and common_factor(p, modulus, value) == [1]
+
+
+def _is_free_list(p, modulus, value):
+    """Return whether a value is a list of free rests by a modulus."""
+    return isinstance(value, list) and all([_is_free(p, modulus, item) for item in value])
+
+
+def _products(p, modulus, rest, rests):
+    """Return the list of the products of a rest with each of several."""
+    return [product_by(p, modulus, rest, item) for item in rests]

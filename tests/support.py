@@ -259,6 +259,63 @@ def some_pairs():
     ]
 
 
+def prime_powers_of(p, modulus):
+    """The primes of a modulus, in order, each with how many times it stands there."""
+    found = []
+    for power in range(1, len(modulus)):
+        for prime in sieved(p, power):
+            count, left = 0, list(modulus)
+            while len(left) > power and rest(p, left, prime) == []:
+                count, left = count + 1, quotient(p, left, prime)
+            if count:
+                found.append((prime, count))
+    return sorted(found)
+
+
+def taken_by(p, prime, one, count):
+    """The rest of a polynomial taken so many times as a factor."""
+    result, square = [1], rest(p, one, prime)
+    while count:
+        if count % 2:
+            result = rest(p, times(p, result, square), prime)
+        square, count = rest(p, times(p, square, square), prime), count // 2
+    return result
+
+
+def residue_by_powers(p, prime, one):
+    """The residue of a polynomial by a prime: 0, or what its power is as a number."""
+    if rest(p, one, prime) == []:
+        return 0
+    power = taken_by(p, prime, one, (p ** (len(prime) - 1) - 1) // (p - 1))
+    assert len(power) == 1
+    return power[0]
+
+
+def least_group(p, modulus, some):
+    """The least group that has all of some free rests: products are added until no new one comes."""
+    group, added = [[1]], [[1]]
+    while added:
+        products = [rest(p, times(p, one, other), modulus) for one in added for other in some]
+        added = [list(one) for one in sorted({tuple(one) for one in products if one not in group})]
+        group += added
+    return sorted(group)
+
+
+def groups_by(p, modulus):
+    """The groups by a modulus that one or two free rests generate, each once."""
+    free, found = free_by(p, modulus), []
+    for one in free:
+        group = least_group(p, modulus, [one])
+        if group not in found:
+            found.append(group)
+    for one in list(found):
+        for other in list(found):
+            group = least_group(p, modulus, one + other)
+            if group not in found:
+                found.append(group)
+    return found
+
+
 def lists_within(value):
     """Return all list objects that a value is made of, as often as they stand in it."""
     found = []

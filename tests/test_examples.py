@@ -47,9 +47,10 @@ t, both = [0, 1], [0, 1, 1]
 # [[2, 1], [], [1], [[1, 2], [0, 3, 1]]]
 """
 
-# Promises [19] to [21]; the block of the document goes on with [22].
+# Promises [19] to [22].
 APART = """\
 from modulusfields.apart import apart, apart_kind, is_apart, leader, led, row_by, zeros_by
+from modulusfields.lots import is_lot_row, lot_rows
 [row_by(3, [0, 0, 1], [1, 1]), apart_kind(3, [0, 0, 1], [1, 1]), apart(3, [0, 0, 1], [1, 1])]
 # [[[2], [], [1], [], [1], [], [1]], (2, 3, 1), [[[1], [2], [], [1]], [[2], [2], [], [1]]]]
 [apart(3, [1, 0, 1], [0, 1]), apart_kind(3, [1, 0, 1], [1, 1]), apart_kind(3, [0, 2, 1], [0, 1]), apart(3, [0, 2, 1], [0, 1]), apart_kind(3, [0, 0, 1], [0, 1]), apart(3, [0, 0, 1], [0, 1])]
@@ -58,9 +59,43 @@ from modulusfields.apart import apart, apart_kind, is_apart, leader, led, row_by
 # [True, False, [[2], [2], [], [1]], [[1], [2], [], [1]], [2], [[1, 2], [1]]]
 [zeros_by(3, [0, 1], [1, 1]), zeros_by(3, [0, 1], [2, 1]), zeros_by(3, [0, 2, 1], [0, 1]), zeros_by(3, [0, 0, 1], [0, 1])]
 # [[[1], [2]], [], [[1], [2]], [[]]]
+[lot_rows(3, [0, 0, 1], [1, 1], [[1], [1, 1], [1, 2]]) == apart(3, [0, 0, 1], [1, 1]), lot_rows(3, [0, 0, 1], [2, 1], [[1], [1, 1], [1, 2]]), lot_rows(3, [0, 1], [1, 1], [[1], [2]]), is_lot_row(3, [0, 0, 1], [1, 1], [[1]], [[1], [1]])]
+# [True, None, [[[2], [], [1]]], False]
 """
 
-BLOCKS = [RESTS, DEEDS, ZEROS, APART]
+# Promises [23] to [28].
+MODULES = """\
+from modulusfields.modules import answer, answers, bar, common_mark, first_maker, how_many_killed, how_many_marked, is_maker, killed, mark_of, marked, prime_parts
+nine, many = [1, 0, 1], [1, 2, 0, 1]
+[mark_of(3, nine, [0, 1]), mark_of(3, nine, [1, 1]), mark_of(3, nine, []), [how_many_marked(3, nine, mark) for mark in [[1], [0, 1], [0, 0, 1], [1, 1]]], marked(3, nine, [1, 1]), mark_of(3, many, [0, 1, 1])]
+# [[0, 0, 1], [0, 1], [1], [1, 2, 6, 0], None, [0, 2, 1]]
+[killed(3, nine, [0, 1]), how_many_killed(3, nine, []), killed(3, many, [1, 1]), how_many_killed(3, many, [0, 0, 1, 1])]
+# [[[], [1, 1], [2, 2]], 9, [[], [1, 2, 2], [2, 1, 1]], 9]
+[first_maker(3, nine), first_maker(3, many), is_maker(3, many, [0, 1]), is_maker(3, many, [1])]
+# [[0, 1], [0, 0, 1], False, True]
+[answers(3, nine, [0, 1], [1, 1]), bar(3, nine, [0, 1], [1]), answer(3, nine, [0, 1], [1]), bar(3, nine, [0, 1], [1, 1])]
+# [[[0, 2], [1], [2, 1]], [1, 1], None, None]
+[prime_parts(3, many, [0, 1]), prime_parts(3, many, [1]), common_mark(3, many, [[1, 1, 2], [0, 1]]), common_mark(3, nine, [])]
+# [[([0, 1], [2, 2, 1]), ([1, 1], [1, 2, 2]), ([2, 1], [])], [([0, 1], [1, 1, 2]), ([1, 1], [1, 2, 2]), ([2, 1], [2, 0, 2])], [0, 1, 1], [1]]
+"""
+
+# Promises [29] to [34].
+RESIDUES = """\
+from modulusfields.residues import how_many_with, residue
+from modulusfields.turning import is_walk, power_or_bar, root, walk
+[residue(3, [1, 0, 1], [0, 1]), residue(3, [1, 0, 1], [1, 1]), residue(5, [0, 1], [3, 4]), residue(5, [0, 0, 1], [3, 4]), residue(7, [0, 1], [0, 3]), residue(7, [1, 1, 1], [3])]
+# [1, 2, 3, 4, 0, 2]
+[how_many_with(3, [1, 0, 1], 2), how_many_with(5, [0, 0, 1], 4), how_many_with(5, [0, 0, 1], 2), how_many_with(7, [0, 1], 5)]
+# [4, 10, 0, 1]
+[is_walk(3, [1, 0, 1], [1, 1], [("turn", [1, 1], [1, 0, 1], 1), ("rest", [1, 1], [2], 1), ("lead", [1, 1], [1], 2)]), is_walk(3, [1, 0, 1], [1, 1], []), is_walk(3, [1, 0, 1], [1], []), is_walk(3, [0, 1], [1, 0, 1], [("rest", [0, 1], [1], 1)]), is_walk(3, [0, 1], [], walk(3, [0, 1], []))]
+# [True, False, True, True, True]
+[root(3, [1, 0, 1], 2, [2]) in [[0, 1], [0, 2]], root(3, [1, 0, 1], 2, [1, 1]), root(5, [0, 1], 4, [1]) in [[1], [2], [3], [4]], root(7, [0, 1], 3, [0, 0, 1])]
+# [True, None, True, []]
+[power_or_bar(3, 2, [1, 2, 1]), power_or_bar(3, 2, [0, 1]), power_or_bar(3, 2, [2]), power_or_bar(5, 4, []), power_or_bar(7, 3, [0, 0, 0, 6])]
+# [('power', [1, 1]), ('bar', [1, 1]), ('bar', [0, 1]), ('power', []), ('power', [0, 3])]
+"""
+
+BLOCKS = [RESTS, DEEDS, ZEROS, APART, MODULES, RESIDUES]
 
 
 class ExamplesTest(unittest.TestCase):

@@ -62,6 +62,34 @@ FUNCTIONS = {
         },
         "zeros_by": {"p": 3, "modulus": [0, 1], "prime": [1, 1]},
     },
+    "modulusfields.lots": {
+        "lot_rows": {"p": 3, "modulus": [0, 1], "prime": [1, 1], "group": [[1], [2]]},
+        "is_lot_row": {"p": 3, "modulus": [0, 1], "prime": [1, 1], "group": [[1], [2]], "value": [[2], [], [1]]},
+    },
+    "modulusfields.modules": {
+        "mark_of": {"p": 3, "prime": [1, 0, 1], "rest": [1, 1]},
+        "how_many_marked": {"p": 3, "prime": [1, 0, 1], "mark": [0, 1]},
+        "marked": {"p": 3, "prime": [1, 0, 1], "mark": [0, 1]},
+        "how_many_killed": {"p": 3, "prime": [1, 0, 1], "polynomial": [0, 1]},
+        "killed": {"p": 3, "prime": [1, 0, 1], "polynomial": [0, 1]},
+        "is_maker": {"p": 3, "prime": [1, 0, 1], "rest": [0, 1]},
+        "first_maker": {"p": 3, "prime": [1, 0, 1]},
+        "answers": {"p": 3, "prime": [1, 0, 1], "polynomial": [0, 1], "rest": [1, 1]},
+        "answer": {"p": 3, "prime": [1, 0, 1], "polynomial": [0, 1], "rest": [1, 1]},
+        "bar": {"p": 3, "prime": [1, 0, 1], "polynomial": [0, 1], "rest": [1]},
+        "prime_parts": {"p": 3, "prime": [1, 2, 0, 1], "rest": [0, 1]},
+        "common_mark": {"p": 3, "prime": [1, 0, 1], "rests": [[1, 1]]},
+    },
+    "modulusfields.residues": {
+        "residue": {"p": 3, "modulus": [1, 0, 1], "polynomial": [1, 1]},
+        "how_many_with": {"p": 3, "modulus": [1, 0, 1], "number": 2},
+    },
+    "modulusfields.turning": {
+        "walk": {"p": 3, "modulus": [1, 0, 1], "polynomial": [1, 1]},
+        "is_walk": {"p": 3, "modulus": [0, 1], "polynomial": [1, 1], "value": [("rest", [0, 1], [1], 1)]},
+        "root": {"p": 3, "prime": [1, 0, 1], "count": 2, "polynomial": [2]},
+        "power_or_bar": {"p": 3, "count": 2, "polynomial": [1, 2, 1]},
+    },
 }
 
 

@@ -3,7 +3,7 @@
 import unittest
 from copy import deepcopy
 
-from modulusfields import apart, deeds, primes, products, rests, zeros
+from modulusfields import apart, deeds, lots, modules, primes, products, residues, rests, turning, zeros
 from modulusfields.errors import InvalidList
 from tests.support import lists_within
 
@@ -89,10 +89,62 @@ CALLS = [
     (apart.zeros_by, [3, [0, 1], [0, 1]]),
     (apart.zeros_by, [3, [0, 1], [1, 1]]),
     (apart.zeros_by, [3, [0, 1], [2, 1]]),
+    (lots.lot_rows, [3, [0, 1], [1, 1], [[1]]]),
+    (lots.lot_rows, [3, [0, 1], [1, 1], [[1], [2]]]),
+    (lots.lot_rows, [3, [0, 1], [2, 1], [[1]]]),
+    (lots.lot_rows, [3, [0, 0, 1], [1, 1], [[1], [1, 1], [1, 2]]]),
+    (lots.is_lot_row, [3, [0, 1], [1, 1], [[1], [2]], [[2], [], [1]]]),
+    (modules.mark_of, [3, [1, 0, 1], []]),
+    (modules.mark_of, [3, [1, 0, 1], [1, 1]]),
+    (modules.how_many_marked, [3, [1, 0, 1], [0, 1]]),
+    (modules.marked, [3, [1, 0, 1], [1]]),
+    (modules.marked, [3, [1, 0, 1], [0, 1]]),
+    (modules.marked, [3, [1, 0, 1], [0, 0, 1]]),
+    (modules.marked, [3, [1, 0, 1], [1, 1]]),
+    (modules.how_many_killed, [3, [1, 0, 1], []]),
+    (modules.killed, [3, [1, 0, 1], []]),
+    (modules.killed, [3, [1, 0, 1], [2]]),
+    (modules.killed, [3, [1, 2, 0, 1], [1, 1]]),
+    (modules.is_maker, [3, [1, 0, 1], [0, 1]]),
+    (modules.first_maker, [3, [1, 1]]),
+    (modules.first_maker, [3, [1, 2, 0, 1]]),
+    (modules.answers, [3, [1, 0, 1], [0, 1], [1, 1]]),
+    (modules.answers, [3, [1, 0, 1], [1], [1, 1]]),
+    (modules.answers, [3, [1, 0, 1], [0, 1], [1]]),
+    (modules.answer, [3, [1, 0, 1], [0, 1], [1, 1]]),
+    (modules.answer, [3, [1, 0, 1], [1], [1, 1]]),
+    (modules.answer, [3, [1, 0, 1], [], []]),
+    (modules.answer, [3, [1, 0, 1], [], [1]]),
+    (modules.bar, [3, [1, 0, 1], [0, 1], [1]]),
+    (modules.bar, [3, [1, 0, 1], [], [1]]),
+    (modules.bar, [3, [1, 0, 1], [1], [1]]),
+    (modules.prime_parts, [3, [1, 0, 1], [1, 1]]),
+    (modules.prime_parts, [3, [1, 2, 0, 1], [0, 1]]),
+    (modules.prime_parts, [3, [1, 2, 0, 1], []]),
+    (modules.common_mark, [3, [1, 0, 1], []]),
+    (modules.common_mark, [3, [1, 0, 1], [[1, 1], [1, 1], []]]),
+    (residues.residue, [3, [1, 0, 1], [1, 1]]),
+    (residues.residue, [3, [0, 1], [0, 1]]),
+    (residues.how_many_with, [3, [1, 0, 1], 2]),
+    (turning.walk, [3, [0, 1], [1]]),
+    (turning.walk, [3, [1, 0, 1], [1, 1]]),
+    (turning.walk, [3, [1, 0, 2, 1], [0, 0, 0, 0, 1, 2]]),
+    (turning.walk, [5, [1, 2, 0, 1, 1], [1, 2, 0, 1, 1]]),
+    (turning.is_walk, [3, [0, 1], [1, 1], [("rest", [0, 1], [1], 1)]]),
+    (turning.root, [3, [1, 0, 1], 1, [1, 1]]),
+    (turning.root, [3, [1, 0, 1], 2, [2]]),
+    (turning.root, [3, [1, 0, 1], 2, []]),
+    (turning.root, [3, [1, 0, 1], 2, [1, 1]]),
+    (turning.power_or_bar, [3, 1, [1, 1]]),
+    (turning.power_or_bar, [3, 2, []]),
+    (turning.power_or_bar, [3, 2, [1, 2, 1]]),
+    (turning.power_or_bar, [3, 2, [2]]),
 ]
 
 # What is returned that is no list and no Boolean.
-KINDS = {"how_many_free": int, "order_of": int, "apart_kind": tuple}
+KINDS = {"order_of": int, "apart_kind": tuple, "residue": int, "power_or_bar": tuple}
+# What returns None where there is nothing of the kind.
+PERHAPS = {"lot_rows": list, "marked": list, "answer": list, "bar": list, "root": list, "unlike_place": int}
 
 
 class ResultsTest(unittest.TestCase):
@@ -162,11 +214,10 @@ class ResultsTest(unittest.TestCase):
 
     def test_kinds_of_results(self):
         for function, arguments in deepcopy(CALLS):
-            name = function.__name__
-            kind = bool if name.startswith("is_") else KINDS.get(name, list)
-            if name != "unlike_place":
-                self.assertIs(type(function(*arguments)), kind, name)
-        self.assertIs(type(deeds.unlike_place(3, [[0, 1], [2]])), int)
+            name, found = function.__name__, function(*arguments)
+            start = name.split("_")[0]
+            kind = {"is": bool, "how": int}.get(start, KINDS.get(name, PERHAPS.get(name, list)))
+            self.assertTrue(type(found) is kind or found is None and name in PERHAPS, name)
 
 
 if __name__ == "__main__":
