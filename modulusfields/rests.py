@@ -110,7 +110,7 @@ def check_free(p, modulus, rest):
 
 
 def check_group(p, modulus, group):
-    """Raise `InvalidGroup` unless a value is a group by a modulus."""
+    """Raise `InvalidPrime`, `InvalidModulus` or `InvalidGroup` unless all arguments are what they are called."""
     if not is_group(p, modulus, group):
         raise InvalidGroup(group)
 

@@ -1,5 +1,6 @@
 """What the tests share: values to be refused, and plain reckoning that owes nothing to the package."""
 
+from copy import deepcopy
 from itertools import product, zip_longest
 
 PRIMES = (3, 5, 7)
@@ -213,12 +214,27 @@ def rests_by(p, modulus):
     return sorted(found)
 
 
+def kept(function):
+    """A function of `p` and something that keeps what it has found; what it returns is new each time."""
+    found = {}
+
+    def told(p, some):
+        key = (p, repr(some))
+        if key not in found:
+            found[key] = function(p, some)
+        return deepcopy(found[key])
+
+    return told
+
+
+@kept
 def free_by(p, modulus):
     """All free rests: those that have an opposite."""
     rests = rests_by(p, modulus)
     return [one for one in rests if any(rest(p, times(p, one, other), modulus) == [1] for other in rests)]
 
 
+@kept
 def sieved(p, power):
     """All primes of a power, in order: the monic polynomials that are no product of two of lower powers."""
     products = set()
@@ -259,6 +275,7 @@ def some_pairs():
     ]
 
 
+@kept
 def prime_powers_of(p, modulus):
     """The primes of a modulus, in order, each with how many times it stands there."""
     found = []
@@ -301,6 +318,7 @@ def least_group(p, modulus, some):
     return sorted(group)
 
 
+@kept
 def groups_by(p, modulus):
     """The groups by a modulus that one or two free rests generate, each once."""
     free, found = free_by(p, modulus), []

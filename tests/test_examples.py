@@ -95,7 +95,37 @@ from modulusfields.turning import is_walk, power_or_bar, root, walk
 # [('power', [1, 1]), ('bar', [1, 1]), ('bar', [0, 1]), ('power', []), ('power', [0, 3])]
 """
 
-BLOCKS = [RESTS, DEEDS, ZEROS, APART, MODULES, RESIDUES]
+# Promises [35] to [37].
+CLASSES = """\
+from modulusfields.classcounts import monics_in_classes, weights_in_classes
+from modulusfields.classprimes import first_prime, primes_in_class, primes_in_classes, primes_of_order
+from modulusfields.rests import free_rests
+[free_rests(3, [0, 0, 1]), [monics_in_classes(3, [0, 0, 1], power) for power in range(4)]]
+# [[[1], [1, 1], [1, 2], [2], [2, 1], [2, 2]], [[1, 0, 0, 0, 0, 0], [0, 1, 0, 0, 1, 0], [1, 1, 1, 1, 1, 1], [3, 3, 3, 3, 3, 3]]]
+[[weights_in_classes(3, [0, 0, 1], power) for power in range(4)], [primes_in_classes(3, [0, 0, 1], power) for power in [1, 2, 3, 4, 5]]]
+# [[[0, 0, 0, 0, 0, 0], [0, 1, 0, 0, 1, 0], [2, 1, 1, 0, 2, 2], [4, 3, 6, 4, 3, 6]], [[0, 1, 0, 0, 1, 0], [1, 0, 0, 0, 1, 1], [1, 1, 2, 1, 1, 2], [2, 3, 3, 4, 3, 3], [8, 9, 7, 8, 9, 7]]]
+[primes_in_classes(3, [0, 1], 6), primes_in_class(3, [0, 0, 1], 5, [1, 2]), primes_of_order(3, [0, 0, 1], 4, 2), primes_of_order(3, [0, 0, 1], 4, 5), [first_prime(3, [0, 0, 1], rest) for rest in free_rests(3, [0, 0, 1])]]
+# [[56, 60], 7, 4, 0, [[1, 0, 1], [1, 1], [1, 2, 0, 1], [2, 0, 1, 1], [2, 1], [2, 2, 1]]]
+"""
+
+# Promises [38] to [41].
+PLACES = """\
+from modulusfields.fieldcounts import class_polynomial, further_points, genus, how_many_places, points
+from modulusfields.places import far_places, places_over
+one, line, square, wide = [[1]], [0, 1], [0, 0, 1], [1, 0, 1]
+[places_over(3, line, one, [1, 1]), places_over(3, line, one, [2, 1]), places_over(3, line, one, [0, 1]), far_places(3, line, one)]
+# [(2, 1, 1), (1, 2, 1), (1, 1, 2), (1, 1, 2)]
+[places_over(3, square, one, [1, 1]), places_over(3, square, one, [0, 1]), far_places(3, square, one), places_over(3, square, [[1], [2]], [2, 1]), places_over(3, wide, one, [1, 0, 1])]
+# [(2, 3, 1), (1, 1, 6), (3, 1, 2), (1, 3, 1), (1, 2, 8)]
+[genus(3, line, one), genus(3, square, one), genus(3, wide, one), genus(3, square, [[1], [2]]), genus(5, line, one)]
+# [0, 1, 2, 0, 0]
+[how_many_places(3, square, one, 1), points(3, wide, one, 1), points(3, wide, one, 2), class_polynomial(3, square, one), class_polynomial(3, wide, one), class_polynomial(3, line, one)]
+# [4, 4, 6, [1, 0, 3], [1, 0, -2, 0, 9], [1]]
+[further_points(3, wide, one, 2), further_points(3, square, one, 2), further_points(3, line, one, 3)]
+# [6, 16, 28]
+"""
+
+BLOCKS = [RESTS, DEEDS, ZEROS, APART, MODULES, RESIDUES, CLASSES, PLACES]
 
 
 class ExamplesTest(unittest.TestCase):

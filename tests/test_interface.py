@@ -90,6 +90,27 @@ FUNCTIONS = {
         "root": {"p": 3, "prime": [1, 0, 1], "count": 2, "polynomial": [2]},
         "power_or_bar": {"p": 3, "count": 2, "polynomial": [1, 2, 1]},
     },
+    "modulusfields.classcounts": {
+        "monics_in_classes": {"p": 3, "modulus": [0, 0, 1], "power": 3},
+        "weights_in_classes": {"p": 3, "modulus": [0, 0, 1], "power": 3},
+    },
+    "modulusfields.classprimes": {
+        "primes_in_class": {"p": 3, "modulus": [0, 0, 1], "power": 5, "rest": [1, 2]},
+        "primes_in_classes": {"p": 3, "modulus": [0, 0, 1], "power": 5},
+        "primes_of_order": {"p": 3, "modulus": [0, 0, 1], "power": 4, "order": 2},
+        "first_prime": {"p": 3, "modulus": [0, 0, 1], "rest": [1, 2]},
+    },
+    "modulusfields.places": {
+        "places_over": {"p": 3, "modulus": [0, 0, 1], "group": [[1]], "prime": [1, 1]},
+        "far_places": {"p": 3, "modulus": [0, 0, 1], "group": [[1]]},
+    },
+    "modulusfields.fieldcounts": {
+        "genus": {"p": 3, "modulus": [1, 0, 1], "group": [[1]]},
+        "how_many_places": {"p": 3, "modulus": [1, 0, 1], "group": [[1]], "degree": 2},
+        "points": {"p": 3, "modulus": [1, 0, 1], "group": [[1]], "count": 2},
+        "class_polynomial": {"p": 3, "modulus": [1, 0, 1], "group": [[1]]},
+        "further_points": {"p": 3, "modulus": [1, 0, 1], "group": [[1]], "count": 2},
+    },
 }
 
 

@@ -3,7 +3,10 @@
 import unittest
 from copy import deepcopy
 
-from modulusfields import apart, deeds, lots, modules, primes, products, residues, rests, turning, zeros
+from modulusfields import (
+    apart, classcounts, classprimes, deeds, fieldcounts, lots, modules, places, primes, products, residues, rests,
+    turning, zeros,
+)
 from modulusfields.errors import InvalidList
 from tests.support import lists_within
 
@@ -139,12 +142,38 @@ CALLS = [
     (turning.power_or_bar, [3, 2, []]),
     (turning.power_or_bar, [3, 2, [1, 2, 1]]),
     (turning.power_or_bar, [3, 2, [2]]),
+    (classcounts.monics_in_classes, [3, [0, 0, 1], 0]),
+    (classcounts.monics_in_classes, [3, [0, 0, 1], 3]),
+    (classcounts.weights_in_classes, [3, [0, 0, 1], 0]),
+    (classcounts.weights_in_classes, [3, [0, 0, 1], 3]),
+    (classprimes.primes_in_class, [3, [0, 0, 1], 5, [1, 2]]),
+    (classprimes.primes_in_classes, [3, [0, 0, 1], 0]),
+    (classprimes.primes_in_classes, [3, [0, 0, 1], 5]),
+    (classprimes.primes_of_order, [3, [0, 0, 1], 4, 2]),
+    (classprimes.first_prime, [3, [0, 0, 1], [1]]),
+    (classprimes.first_prime, [3, [0, 0, 1], [1, 1]]),
+    (places.places_over, [3, [0, 0, 1], [[1], [2]], [1, 1]]),
+    (places.places_over, [3, [0, 0, 1], [[1], [2]], [0, 1]]),
+    (places.far_places, [3, [0, 0, 1], [[1]]]),
+    (fieldcounts.genus, [3, [1, 0, 1], [[1]]]),
+    (fieldcounts.how_many_places, [3, [1, 0, 1], [[1]], 2]),
+    (fieldcounts.points, [3, [1, 0, 1], [[1], [2]], 2]),
+    (fieldcounts.class_polynomial, [3, [0, 1], [[1]]]),
+    (fieldcounts.class_polynomial, [3, [1, 0, 1], [[1]]]),
+    (fieldcounts.further_points, [3, [1, 0, 1], [[1]], 7]),
 ]
 
 # What is returned that is no list and no Boolean.
-KINDS = {"order_of": int, "apart_kind": tuple, "residue": int, "power_or_bar": tuple}
+KINDS = {
+    "order_of": int, "apart_kind": tuple, "residue": int, "power_or_bar": tuple, "primes_in_class": int,
+    "primes_of_order": int, "places_over": tuple, "far_places": tuple, "genus": int, "points": int,
+    "further_points": int,
+}
 # What returns None where there is nothing of the kind.
-PERHAPS = {"lot_rows": list, "marked": list, "answer": list, "bar": list, "root": list, "unlike_place": int}
+PERHAPS = {
+    "lot_rows": list, "marked": list, "answer": list, "bar": list, "root": list, "unlike_place": int,
+    "first_prime": list,
+}
 
 
 class ResultsTest(unittest.TestCase):
